@@ -1,0 +1,82 @@
+package depot_test
+
+import (
+	"testing"
+
+	"depot/api"
+	"depot/depot"
+)
+
+const least, most = -1 << 63, 1<<63 - 1
+
+// opened makes a depot with the root number root.
+func opened(t *testing.T, root int) *depot.Depot {
+	t.Helper()
+	d, e := depot.New(root)
+	if d == nil || e != api.OK {
+		t.Fatalf("New(%d) = %v, %d, want a depot", root, d, e)
+	}
+	return d
+}
+
+// furnished makes a depot with the root number 7 and the houses acme and beta.
+// Of each, the tokens 1, 2 and 3 are Reader, Writer and Admin, till 100.
+func furnished(t *testing.T) *depot.Depot {
+	t.Helper()
+	d := opened(t, 7)
+	for _, house := range []string{"acme", "beta"} {
+		found(t, d, "", 7, house, api.OK)
+		for role := api.Reader; role <= api.Admin; role++ {
+			mint(t, d, "", 7, house, role, role, 100, api.OK)
+		}
+	}
+	return d
+}
+
+func tick(t *testing.T, d *depot.Depot, n int, want api.Errno) {
+	t.Helper()
+	if e := d.Tick(n); e != want {
+		t.Errorf("Tick(%d) = %d, want %d", n, e, want)
+	}
+}
+
+func clock(t *testing.T, d *depot.Depot, want int) {
+	t.Helper()
+	if n := d.Clock(); n != want {
+		t.Errorf("Clock() = %d, want %d", n, want)
+	}
+}
+
+// may asks for a role; 0 stands for ErrToken.
+func may(t *testing.T, d *depot.Depot, house string, id int, want int) {
+	t.Helper()
+	wantErrno := api.OK
+	if want == 0 {
+		wantErrno = api.ErrToken
+	}
+	role, e := d.May(house, id)
+	if role != want || e != wantErrno {
+		t.Errorf("May(%q, %d) = %d, %d, want %d, %d", house, id, role, e, want, wantErrno)
+	}
+}
+
+func found(t *testing.T, d *depot.Depot, house string, id int, name string, want api.Errno) {
+	t.Helper()
+	if e := d.Found(house, id, name); e != want {
+		t.Errorf("Found(%q, %d, %q) = %d, want %d", house, id, name, e, want)
+	}
+}
+
+func mint(t *testing.T, d *depot.Depot, house string, id int, of string, role, fresh, until int, want api.Errno) {
+	t.Helper()
+	if e := d.Mint(house, id, of, role, fresh, until); e != want {
+		t.Errorf("Mint(%q, %d, %q, %d, %d, %d) = %d, want %d", house, id, of, role, fresh, until, e, want)
+	}
+}
+
+func revoke(t *testing.T, d *depot.Depot, house string, id int, of string, old int, want api.Errno) {
+	t.Helper()
+	if e := d.Revoke(house, id, of, old); e != want {
+		t.Errorf("Revoke(%q, %d, %q, %d) = %d, want %d", house, id, of, old, e, want)
+	}
+}
