@@ -1,13 +1,17 @@
 // Package depot: packages of many houses, who may see them, and which of them go together: see DOC.md.
 package depot
 
-import "depot/api"
+import (
+	"depot/api"
+	"depot/shelf"
+)
 
 // Depot is one depot.
 type Depot struct {
 	root   int
 	clock  int
 	houses []houseRecord
+	public shelf.Shelf
 }
 
 // New makes a depot (P3).

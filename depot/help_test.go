@@ -80,3 +80,53 @@ func revoke(t *testing.T, d *depot.Depot, house string, id int, of string, old i
 		t.Errorf("Revoke(%q, %d, %q, %d) = %d, want %d", house, id, of, old, e, want)
 	}
 }
+
+func feed(t *testing.T, d *depot.Depot, name string, version int, wants string, want api.Errno) {
+	t.Helper()
+	if e := d.Feed(name, version, wants); e != want {
+		t.Errorf("Feed(%q, %d, %q) = %d, want %d", name, version, wants, e, want)
+	}
+}
+
+func publish(t *testing.T, d *depot.Depot, house string, id int, pack string, version int, wants string, want api.Errno) {
+	t.Helper()
+	if e := d.Publish(house, id, pack, version, wants); e != want {
+		t.Errorf("Publish(%q, %d, %q, %d, %q) = %d, want %d", house, id, pack, version, wants, e, want)
+	}
+}
+
+func yank(t *testing.T, d *depot.Depot, house string, id int, pack string, version int, back bool, want api.Errno) {
+	t.Helper()
+	if e := d.Yank(house, id, pack, version, back); e != want {
+		t.Errorf("Yank(%q, %d, %q, %d, %v) = %d, want %d", house, id, pack, version, back, e, want)
+	}
+}
+
+func grant(t *testing.T, d *depot.Depot, house string, id int, pack, to string, want api.Errno) {
+	t.Helper()
+	if e := d.Grant(house, id, pack, to); e != want {
+		t.Errorf("Grant(%q, %d, %q, %q) = %d, want %d", house, id, pack, to, e, want)
+	}
+}
+
+// show asks what a holder is shown; the empty text stands for ErrMissing.
+func show(t *testing.T, d *depot.Depot, house string, id int, name string, want string) {
+	t.Helper()
+	wantErrno := api.OK
+	if want == "" {
+		wantErrno = api.ErrMissing
+	}
+	text, e := d.Show(house, id, name)
+	if text != want || e != wantErrno {
+		t.Errorf("Show(%q, %d, %q) = %q, %d, want %q, %d", house, id, name, text, e, want, wantErrno)
+	}
+}
+
+// noShow asks to be shown a name and is refused.
+func noShow(t *testing.T, d *depot.Depot, house string, id int, name string, want api.Errno) {
+	t.Helper()
+	text, e := d.Show(house, id, name)
+	if text != "" || e != want {
+		t.Errorf("Show(%q, %d, %q) = %q, %d, want nothing, %d", house, id, name, text, e, want)
+	}
+}

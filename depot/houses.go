@@ -2,13 +2,17 @@ package depot
 
 import (
 	"depot/api"
+	"depot/grants"
+	"depot/shelf"
 	"depot/tokens"
 	"depot/words"
 )
 
 type houseRecord struct {
-	name string
-	ring tokens.Ring
+	name  string
+	ring  tokens.Ring
+	stock shelf.Shelf
+	book  grants.Book
 }
 
 // May tells the role of a token (P5).
@@ -32,7 +36,7 @@ func (d *Depot) Found(house string, id int, name string) api.Errno {
 	if !words.IsWord(name) {
 		return api.ErrName
 	}
-	if d.find(name) >= 0 {
+	if d.find(name) != nil {
 		return api.ErrTaken
 	}
 	if len(d.houses) >= api.MaxHouses {
@@ -50,11 +54,11 @@ func (d *Depot) Mint(house string, id int, of string, role int, fresh int, until
 	if e != api.OK {
 		return e
 	}
-	i := d.find(of)
-	if i < 0 {
+	h := d.find(of)
+	if h == nil {
 		return api.ErrMissing
 	}
-	return d.houses[i].ring.Mint(role, fresh, until)
+	return h.ring.Mint(role, fresh, until)
 }
 
 // Revoke lets a token count no more (P8).
@@ -63,11 +67,11 @@ func (d *Depot) Revoke(house string, id int, of string, old int) api.Errno {
 	if e != api.OK {
 		return e
 	}
-	i := d.find(of)
-	if i < 0 {
+	h := d.find(of)
+	if h == nil {
 		return api.ErrMissing
 	}
-	return d.houses[i].ring.Revoke(old)
+	return h.ring.Revoke(old)
 }
 
 // held tells the role that is held by what the caller shows, or NoRole.
@@ -78,11 +82,11 @@ func (d *Depot) held(house string, id int) int {
 		}
 		return tokens.NoRole
 	}
-	i := d.find(house)
-	if i < 0 {
+	h := d.find(house)
+	if h == nil {
 		return tokens.NoRole
 	}
-	return d.houses[i].ring.Role(id, d.clock)
+	return h.ring.Role(id, d.clock)
 }
 
 // mayManage answers OK if the caller may mint and revoke tokens of the house
@@ -102,12 +106,26 @@ func (d *Depot) mayManage(house string, id int, of string) api.Errno {
 	return api.ErrRole
 }
 
-// find tells the place of the house of this name, or -1.
-func (d *Depot) find(name string) int {
+// mayWork gives the caller's house, if the caller holds there the role least
+// or a greater one. Root is greater than all, but works in no house.
+func (d *Depot) mayWork(house string, id int, least int) (*houseRecord, api.Errno) {
+	role := d.held(house, id)
+	if role == tokens.NoRole {
+		return nil, api.ErrToken
+	}
+	if role < least || role == api.Root {
+		return nil, api.ErrRole
+	}
+	return d.find(house), api.OK
+}
+
+// find gives the house of this name, or nil. Behind a Found it is to be asked
+// for anew: the list of houses may lie elsewhere then.
+func (d *Depot) find(name string) *houseRecord {
 	for i := 0; i < len(d.houses); i++ {
 		if d.houses[i].name == name {
-			return i
+			return &d.houses[i]
 		}
 	}
-	return -1
+	return nil
 }

@@ -3,6 +3,7 @@ package depot_test
 import (
 	"math/rand"
 	"reflect"
+	"strings"
 	"testing"
 
 	"depot/api"
@@ -16,48 +17,90 @@ const (
 	callFound
 	callMint
 	callRevoke
+	callFeed
+	callPublish
+	callYank
+	callGrant
+	callShow
 	callKinds
 )
 
-// call is one call: text is name or of; a, b, c are the numbers behind it.
+// call is one call: text is name, of or pack, and more is wants or to; a, b, c
+// are the numbers behind these.
 type call struct {
-	kind    int
-	house   string
-	id      int
-	text    string
-	a, b, c int
+	kind       int
+	house      string
+	id         int
+	text, more string
+	a, b, c    int
+	back       bool
 }
 
 type answer struct {
-	n int
-	e api.Errno
+	text string
+	n    int
+	e    api.Errno
 }
 
 func do(d *depot.Depot, c call) answer {
 	switch c.kind {
 	case callTick:
-		return answer{0, d.Tick(c.a)}
+		return answer{e: d.Tick(c.a)}
 	case callClock:
-		return answer{d.Clock(), api.OK}
+		return answer{n: d.Clock()}
 	case callMay:
 		n, e := d.May(c.house, c.id)
-		return answer{n, e}
+		return answer{n: n, e: e}
 	case callFound:
-		return answer{0, d.Found(c.house, c.id, c.text)}
+		return answer{e: d.Found(c.house, c.id, c.text)}
 	case callMint:
-		return answer{0, d.Mint(c.house, c.id, c.text, c.a, c.b, c.c)}
+		return answer{e: d.Mint(c.house, c.id, c.text, c.a, c.b, c.c)}
+	case callRevoke:
+		return answer{e: d.Revoke(c.house, c.id, c.text, c.a)}
+	case callFeed:
+		return answer{e: d.Feed(c.text, c.a, c.more)}
+	case callPublish:
+		return answer{e: d.Publish(c.house, c.id, c.text, c.a, c.more)}
+	case callYank:
+		return answer{e: d.Yank(c.house, c.id, c.text, c.a, c.back)}
+	case callGrant:
+		return answer{e: d.Grant(c.house, c.id, c.text, c.more)}
 	}
-	return answer{0, d.Revoke(c.house, c.id, c.text, c.a)}
+	text, e := d.Show(c.house, c.id, c.text)
+	return answer{text: text, e: e}
 }
 
-func pick(r *rand.Rand, numbers ...int) int { return numbers[r.Intn(len(numbers))] }
+func pick[T any](r *rand.Rand, choices ...T) T { return choices[r.Intn(len(choices))] }
 
 func pickHouse(r *rand.Rand) string {
 	if r.Intn(12) == 0 {
-		return oddTexts[r.Intn(len(oddTexts))]
+		return pick(r, oddTexts...)
 	}
-	names := []string{"acme", "acme", "acme", "beta", "beta", "a", "b", "c", "zzzz", "q"}
-	return names[r.Intn(len(names))]
+	return pick(r, "acme", "acme", "acme", "beta", "beta", "a", "b", "c", "zzzz", "q")
+}
+
+func pickPack(r *rand.Rand) string {
+	if r.Intn(12) == 0 {
+		return pick(r, noWords...)
+	}
+	return pick(r, "x", "x", "x", "y", "abcd")
+}
+
+func pickName(r *rand.Rand) string {
+	switch r.Intn(10) {
+	case 0:
+		return pick(r, noNames...)
+	case 1, 2, 3:
+		return pick(r, "x", "y", "abcd", "acme", "b")
+	}
+	return pickHouse(r) + "/" + pickPack(r)
+}
+
+func pickWants(r *rand.Rand) string {
+	if r.Intn(4) == 0 {
+		return pick(r, noWants...)
+	}
+	return pick(r, someWants...)
 }
 
 func pickNumber(r *rand.Rand) int {
@@ -67,13 +110,27 @@ func pickNumber(r *rand.Rand) int {
 	return 1 + r.Intn(10)
 }
 
-func pickCall(r *rand.Rand) call {
-	c := call{kind: r.Intn(callKinds), house: pickHouse(r), id: pickNumber(r), text: pickHouse(r), a: pickNumber(r)}
-	// Without these two, nearly all calls would be answered ErrToken or ErrRole.
-	switch r.Intn(3) {
+// pickHolder picks a house and a number that holds a role there, if it hits on one.
+func pickHolder(r *rand.Rand, m *model) (string, int) {
+	for range 100 {
+		house, id := pick(r, "acme", "beta", "a"), pickNumber(r)
+		if m.role(house, id) != 0 {
+			return house, id
+		}
+	}
+	return "", 7
+}
+
+func pickCall(r *rand.Rand, m *model) call {
+	c := call{kind: r.Intn(callKinds), house: pickHouse(r), id: pickNumber(r), text: pickHouse(r), a: pickNumber(r), back: r.Intn(2) == 0}
+	// Without these, nearly all calls would be answered ErrToken or ErrRole.
+	switch r.Intn(5) {
 	case 0:
 		c.house, c.id = "", 7
 	case 1:
+		c.text = c.house
+	case 2, 3:
+		c.house, c.id = pickHolder(r, m)
 		c.text = c.house
 	}
 	switch c.kind {
@@ -85,21 +142,35 @@ func pickCall(r *rand.Rand) call {
 	case callMint:
 		c.b, c.a = c.a, pick(r, 1, 1, 2, 2, 3, 3, 3, 3, 3, 3, 0, 4, least, most)
 		c.c = pick(r, 1, 5, 20, 100, 100, 100, api.MaxClock, api.MaxClock+1, most, 0, least)
+	case callFeed:
+		c.text, c.more = pickName(r), pickWants(r)
+	case callPublish:
+		c.text, c.more = pickPack(r), pickWants(r)
+	case callYank:
+		c.text = pickPack(r)
+	case callGrant:
+		c.text, c.more = pickPack(r), pickHouse(r)
+	case callShow:
+		c.text = pickName(r)
 	}
 	return c
 }
 
+// asks are the calls that change nothing, whatever they answer.
+var asks = [callKinds]bool{callClock: true, callMay: true, callShow: true}
+
 // Long walks of calls, right and wrong ones. Of two more depots, one gets all
 // the calls, for it must answer alike (P2), and one only those that were
-// answered OK, for the others must have changed nothing (P1).
+// answered OK and do not but ask, for the others must have changed nothing (P1).
 func TestP1P2Walks(t *testing.T) {
 	var seen [callKinds][11]int
+	shown := map[string]int{}
 	for seed := int64(0); seed < 100; seed++ {
 		r := rand.New(rand.NewSource(seed))
 		m := newModel(7)
 		d, again, good := opened(t, 7), opened(t, 7), opened(t, 7)
 		for step := 0; step < 1500; step++ {
-			c := pickCall(r)
+			c := pickCall(r, m)
 			want := m.answer(c)
 			got := do(d, c)
 			if got != want {
@@ -108,28 +179,59 @@ func TestP1P2Walks(t *testing.T) {
 			if a := do(again, c); a != got {
 				t.Fatalf("seed %d, step %d: %+v = %v, on another depot %v", seed, step, c, got, a)
 			}
-			if got.e == api.OK {
+			if got.e == api.OK && !asks[c.kind] {
 				do(good, c)
 			}
 			if !reflect.DeepEqual(d, good) {
 				t.Fatalf("seed %d, step %d: %+v = %v has changed the depot", seed, step, c, got)
 			}
 			seen[c.kind][got.e]++
+			if got.text != "" {
+				shown[sightOf(c, got.text)]++
+			}
 		}
 	}
 	checkSeen(t, seen)
+	for _, sight := range []string{"public", "public of a scoped name", "own", "own yanked", "granted", "granted yanked"} {
+		if shown[sight] == 0 {
+			t.Errorf("nobody was shown what is %s", sight)
+		}
+	}
+}
+
+// sightOf tells why something was shown.
+func sightOf(c call, text string) string {
+	whose, versions, _ := strings.Cut(text, ":")
+	sight := "granted"
+	switch {
+	case whose == "public" && strings.Contains(c.text, "/"):
+		sight = "public of a scoped name"
+	case whose == "public":
+		sight = "public"
+	case whose == c.house:
+		sight = "own"
+	}
+	if strings.Contains(versions, "*") {
+		sight += " yanked"
+	}
+	return sight
 }
 
 // checkSeen sees to it that the walks met every answer that a call can give.
 func checkSeen(t *testing.T, seen [callKinds][11]int) {
 	t.Helper()
 	answers := [callKinds][]api.Errno{
-		callTick:   {api.OK, api.ErrArg},
-		callClock:  {api.OK},
-		callMay:    {api.OK, api.ErrToken},
-		callFound:  {api.OK, api.ErrToken, api.ErrRole, api.ErrName, api.ErrTaken, api.ErrRoom},
-		callMint:   {api.OK, api.ErrToken, api.ErrRole, api.ErrMissing, api.ErrArg, api.ErrTaken, api.ErrRoom},
-		callRevoke: {api.OK, api.ErrToken, api.ErrRole, api.ErrMissing},
+		callTick:    {api.OK, api.ErrArg},
+		callClock:   {api.OK},
+		callMay:     {api.OK, api.ErrToken},
+		callFound:   {api.OK, api.ErrToken, api.ErrRole, api.ErrName, api.ErrTaken, api.ErrRoom},
+		callMint:    {api.OK, api.ErrToken, api.ErrRole, api.ErrMissing, api.ErrArg, api.ErrTaken, api.ErrRoom},
+		callRevoke:  {api.OK, api.ErrToken, api.ErrRole, api.ErrMissing},
+		callFeed:    {api.OK, api.ErrName, api.ErrArg, api.ErrDeps, api.ErrTaken, api.ErrRoom},
+		callPublish: {api.OK, api.ErrToken, api.ErrRole, api.ErrName, api.ErrArg, api.ErrDeps, api.ErrTaken, api.ErrRoom},
+		callYank:    {api.OK, api.ErrToken, api.ErrRole, api.ErrName, api.ErrMissing},
+		callGrant:   {api.OK, api.ErrToken, api.ErrRole, api.ErrName, api.ErrMissing, api.ErrTaken, api.ErrRoom},
+		callShow:    {api.OK, api.ErrToken, api.ErrName, api.ErrMissing},
 	}
 	for kind, errnos := range answers {
 		for _, e := range errnos {
@@ -147,7 +249,14 @@ func TestP2DepotsApart(t *testing.T) {
 	revoke(t, one, "acme", 3, "acme", 1, api.OK)
 	mint(t, one, "acme", 3, "acme", api.Writer, 9, 100, api.OK)
 	found(t, one, "", 7, "c", api.OK)
+	feed(t, one, "y", 1, "", api.OK)
+	publish(t, one, "acme", 2, "x", 1, "", api.OK)
+	grant(t, one, "acme", 3, "x", "beta", api.OK)
 	clock(t, other, 0)
+	show(t, other, "acme", 2, "y", "")
+	show(t, other, "acme", 2, "acme/x", "")
+	publish(t, other, "acme", 2, "x", 1, "", api.OK)
+	show(t, other, "beta", 2, "acme/x", "")
 	may(t, other, "acme", 1, api.Reader)
 	may(t, other, "acme", 9, 0)
 	found(t, other, "", 7, "c", api.OK)
@@ -164,6 +273,8 @@ func TestP2AskedAgain(t *testing.T) {
 		clock(t, d, 0)
 		may(t, d, "acme", 1, api.Reader)
 		may(t, d, "acme", 9, 0)
+		show(t, d, "acme", 1, "acme/x", "")
+		show(t, d, "acme", 1, "y", "")
 	}
 	if !reflect.DeepEqual(d, furnished(t)) {
 		t.Error("asking has changed the depot")

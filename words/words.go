@@ -1,4 +1,4 @@
-// Package words: which texts are words.
+// Package words: which texts are words, and which are names.
 package words
 
 import "depot/api"
@@ -14,4 +14,24 @@ func IsWord(text string) bool {
 		}
 	}
 	return true
+}
+
+// IsName tells whether a text is a word, or a word, `/` and a word.
+func IsName(text string) bool {
+	first, second, scoped := Split(text)
+	if scoped && !IsWord(second) {
+		return false
+	}
+	return IsWord(first)
+}
+
+// Split parts a text at its first `/`. Without one, the text is whole the
+// first part, and not scoped.
+func Split(text string) (string, string, bool) {
+	for i := 0; i < len(text); i++ {
+		if text[i] == '/' {
+			return text[:i], text[i+1:], true
+		}
+	}
+	return text, "", false
 }
