@@ -130,3 +130,39 @@ func noShow(t *testing.T, d *depot.Depot, house string, id int, name string, wan
 		t.Errorf("Show(%q, %d, %q) = %q, %d, want nothing, %d", house, id, name, text, e, want)
 	}
 }
+
+func resolve(t *testing.T, d *depot.Depot, house string, id int, wants string, budget int, want string, steps int, wantErrno api.Errno) {
+	t.Helper()
+	text, n, e := d.Resolve(house, id, wants, budget)
+	if text != want || n != steps || e != wantErrno {
+		t.Errorf("Resolve(%q, %d, %q, %d) = %q, %d, %d, want %q, %d, %d", house, id, wants, budget, text, n, e, want, steps, wantErrno)
+	}
+}
+
+// resolveOf asks with budgets of all kinds: those of at least the steps that
+// it takes are answered with these, all others with ErrBudget.
+func resolveOf(t *testing.T, d *depot.Depot, house string, id int, wants string, want string, steps int, wantErrno api.Errno) {
+	t.Helper()
+	for _, budget := range []int{steps, steps + 1, steps + 100, api.MaxBudget - 1, api.MaxBudget} {
+		if budget >= steps && budget <= api.MaxBudget {
+			resolve(t, d, house, id, wants, budget, want, steps, wantErrno)
+		}
+	}
+	for _, budget := range []int{0, 1, 2, 3, steps / 2, steps - 2, steps - 1} {
+		if budget >= 0 && budget < steps {
+			resolve(t, d, house, id, wants, budget, "", budget, api.ErrBudget)
+		}
+	}
+}
+
+// fits asks for what goes together, and how many steps it takes.
+func fits(t *testing.T, d *depot.Depot, house string, id int, wants string, want string, steps int) {
+	t.Helper()
+	resolveOf(t, d, house, id, wants, want, steps, api.OK)
+}
+
+// noFit asks for what does not go together, and how many steps it takes.
+func noFit(t *testing.T, d *depot.Depot, house string, id int, wants string, steps int) {
+	t.Helper()
+	resolveOf(t, d, house, id, wants, "", steps, api.ErrNone)
+}

@@ -2,14 +2,16 @@ package depot_test
 
 import (
 	"fmt"
+	"maps"
 	"regexp"
+	"slices"
 	"sort"
 	"strings"
 
 	"depot/api"
 )
 
-// model is a second telling of P3 to P13, straight from the document and with
+// model is a second telling of P3 to P14, straight from the document and with
 // other means than the program's, for the walks of walk_test.go.
 type model struct {
 	root   int
@@ -29,8 +31,13 @@ type modelToken struct {
 	revoked     bool
 }
 
-// modelShelf says of each name and version whether it is yanked.
-type modelShelf map[string]bool
+// modelShelf has versions: its keys are a label, @ and a number.
+type modelShelf map[string]modelVersion
+
+type modelVersion struct {
+	wants  string
+	yanked bool
+}
 
 const oneName = `[a-z]{1,4}(/[a-z]{1,4})?`
 
@@ -98,6 +105,8 @@ func (m *model) answer(c call) answer {
 		return answer{e: m.yank(role, c)}
 	case callGrant:
 		return answer{e: m.grant(role, c)}
+	case callResolve:
+		return m.resolve(role, c)
 	}
 	return m.show(role, c)
 }
@@ -170,7 +179,7 @@ func (s modelShelf) laid(c call, room int) api.Errno {
 	_, taken := s[key]
 	e := first(check{c.a < 1 || c.a > 9, api.ErrArg}, check{!isWants(c.more), api.ErrDeps}, check{taken, api.ErrTaken}, check{len(s) == room, api.ErrRoom})
 	if e == api.OK {
-		s[key] = false
+		s[key] = modelVersion{wants: c.more}
 	}
 	return e
 }
@@ -178,9 +187,9 @@ func (s modelShelf) laid(c call, room int) api.Errno {
 // told tells the versions of a name; none, if it has none.
 func (s modelShelf) told(name string) string {
 	versions := []string{}
-	for key, yanked := range s {
+	for key, v := range s {
 		if version, mine := strings.CutPrefix(key, name+"@"); mine {
-			versions = append(versions, version+map[bool]string{true: "*"}[yanked])
+			versions = append(versions, version+map[bool]string{true: "*"}[v.yanked])
 		}
 	}
 	sort.Strings(versions)
@@ -208,10 +217,12 @@ func (m *model) yank(role int, c call) api.Errno {
 		return e
 	}
 	key := fmt.Sprint(c.text, "@", c.a)
-	if _, there := m.houses[c.house].shelf[key]; !there {
+	version, there := m.houses[c.house].shelf[key]
+	if !there {
 		return api.ErrMissing
 	}
-	m.houses[c.house].shelf[key] = !c.back
+	version.yanked = !c.back
+	m.houses[c.house].shelf[key] = version
 	return api.OK
 }
 
@@ -235,16 +246,105 @@ func (m *model) show(role int, c call) answer {
 	if !nameForm.MatchString(c.text) {
 		return answer{e: api.ErrName}
 	}
-	whose, versions := "public", m.public.told(c.text)
-	house, pack, scoped := strings.Cut(c.text, "/")
-	if h := m.houses[house]; scoped && h != nil {
-		whose, versions = house, h.shelf.told(pack)
-		if c.house != house && !h.granted[pack+" "+c.house] {
-			versions = ""
+	shelf, label, whose := m.sight(c.house, c.text)
+	if versions := shelf.told(label); versions != "" {
+		return answer{text: whose + ":" + versions}
+	}
+	return answer{e: api.ErrMissing}
+}
+
+// sight gives the shelf and the label where holders of the house see the
+// versions of a name (of what they may not see, no shelf), and whose it is.
+func (m *model) sight(house, name string) (modelShelf, string, string) {
+	owner, pack, scoped := strings.Cut(name, "/")
+	h := m.houses[owner]
+	if !scoped || h == nil {
+		return m.public, name, "public"
+	}
+	if house != owner && !h.granted[pack+" "+house] {
+		return nil, pack, owner
+	}
+	return h.shelf, pack, owner
+}
+
+type modelWant struct {
+	name     string
+	from, to int
+}
+
+func (w modelWant) has(version int) bool { return w.from <= version && version <= w.to }
+
+// wantsOf gives the wants of a text that has some, or is empty.
+func wantsOf(text string) []modelWant {
+	var list []modelWant
+	for _, one := range strings.FieldsFunc(text, func(r rune) bool { return r == ',' }) {
+		name, digits, _ := strings.Cut(one, " ")
+		list = append(list, modelWant{name, int(digits[0] - '0'), int(digits[2] - '0')})
+	}
+	return list
+}
+
+// modelTry is what a Resolve does not change, and how many steps were made.
+type modelTry struct {
+	m      *model
+	house  string
+	asked  []modelWant
+	budget int
+	steps  int
+}
+
+func (m *model) resolve(role int, c call) answer {
+	e := first(check{role == 0, api.ErrToken}, check{!isWants(c.more), api.ErrDeps}, check{c.a < 0 || c.a > 1000000, api.ErrArg})
+	if e != api.OK {
+		return answer{e: e}
+	}
+	try := modelTry{m: m, house: c.house, asked: wantsOf(c.more), budget: c.a}
+	chosen, e := try.choose(try.asked, map[string]int{})
+	text := ""
+	for _, name := range slices.Sorted(maps.Keys(chosen)) {
+		_, _, whose := m.sight(c.house, name)
+		text += fmt.Sprintf("%s@%d#%s;", name, chosen[name], whose)
+	}
+	return answer{text: text, n: try.steps, e: e}
+}
+
+// choose goes through what is left of the list. Each step hands on a list and
+// choices of its own, so that there is nothing to take back.
+func (try *modelTry) choose(list []modelWant, chosen map[string]int) (map[string]int, api.Errno) {
+	if len(list) == 0 {
+		return chosen, api.OK
+	}
+	want, rest := list[0], list[1:]
+	if version := chosen[want.name]; version != 0 {
+		if want.has(version) {
+			return try.choose(rest, chosen)
+		}
+		return nil, api.ErrNone
+	}
+	for version := want.to; version >= want.from; version-- {
+		more, is := try.candidate(want.name, version)
+		if !is {
+			continue
+		}
+		if try.steps == try.budget {
+			return nil, api.ErrBudget
+		}
+		try.steps++
+		with := maps.Clone(chosen)
+		with[want.name] = version
+		if all, e := try.choose(slices.Concat(rest, more), with); e != api.ErrNone {
+			return all, e
 		}
 	}
-	if versions == "" {
-		return answer{e: api.ErrMissing}
+	return nil, api.ErrNone
+}
+
+// candidate tells whether a version may be chosen, and what it wants.
+func (try *modelTry) candidate(name string, version int) ([]modelWant, bool) {
+	shelf, label, _ := try.m.sight(try.house, name)
+	v, there := shelf[fmt.Sprint(label, "@", version)]
+	if !there || v.yanked && !slices.Contains(try.asked, modelWant{name, version, version}) {
+		return nil, false
 	}
-	return answer{text: whose + ":" + versions}
+	return wantsOf(v.wants), true
 }

@@ -70,11 +70,6 @@ func (d *Depot) Show(house string, id int, name string) (string, api.Errno) {
 	return at.whose() + ":" + versions, api.OK
 }
 
-// Resolve tells which versions go together (P14).
-func (d *Depot) Resolve(house string, id int, wants string, budget int) (string, int, api.Errno) {
-	return "", 0, api.OK
-}
-
 // Log tells what was done in a house (P15).
 func (d *Depot) Log(house string, id int) (string, api.Errno) { return "", api.OK }
 

@@ -1,6 +1,7 @@
 package depot_test
 
 import (
+	"fmt"
 	"math/rand"
 	"reflect"
 	"strings"
@@ -22,6 +23,7 @@ const (
 	callYank
 	callGrant
 	callShow
+	callResolve
 	callKinds
 )
 
@@ -65,6 +67,9 @@ func do(d *depot.Depot, c call) answer {
 		return answer{e: d.Yank(c.house, c.id, c.text, c.a, c.back)}
 	case callGrant:
 		return answer{e: d.Grant(c.house, c.id, c.text, c.more)}
+	case callResolve:
+		text, n, e := d.Resolve(c.house, c.id, c.more, c.a)
+		return answer{text: text, n: n, e: e}
 	}
 	text, e := d.Show(c.house, c.id, c.text)
 	return answer{text: text, e: e}
@@ -97,10 +102,29 @@ func pickName(r *rand.Rand) string {
 }
 
 func pickWants(r *rand.Rand) string {
-	if r.Intn(4) == 0 {
+	switch r.Intn(8) {
+	case 0:
 		return pick(r, noWants...)
+	case 1, 2:
+		return pick(r, someWants...)
 	}
-	return pick(r, someWants...)
+	var list []string
+	for range r.Intn(4) {
+		from, to := 1+r.Intn(9), 1+r.Intn(9)
+		if r.Intn(3) == 0 {
+			to = from
+		}
+		name := pick(r, "x", "y", "abcd", "acme/x", "acme/y", "acme/abcd", "beta/x", "a/x")
+		list = append(list, fmt.Sprintf("%s %d-%d", name, min(from, to), max(from, to)))
+	}
+	return strings.Join(list, ",")
+}
+
+func pickBudget(r *rand.Rand) int {
+	if r.Intn(8) == 0 {
+		return pick(r, least, -1, 0, api.MaxBudget, api.MaxBudget+1, most)
+	}
+	return pick(r, 1, 2, 3, 4, 5, 10, 100)
 }
 
 func pickNumber(r *rand.Rand) int {
@@ -152,19 +176,21 @@ func pickCall(r *rand.Rand, m *model) call {
 		c.text, c.more = pickPack(r), pickHouse(r)
 	case callShow:
 		c.text = pickName(r)
+	case callResolve:
+		c.more, c.a = pickWants(r), pickBudget(r)
 	}
 	return c
 }
 
 // asks are the calls that change nothing, whatever they answer.
-var asks = [callKinds]bool{callClock: true, callMay: true, callShow: true}
+var asks = [callKinds]bool{callClock: true, callMay: true, callShow: true, callResolve: true}
 
 // Long walks of calls, right and wrong ones. Of two more depots, one gets all
 // the calls, for it must answer alike (P2), and one only those that were
 // answered OK and do not but ask, for the others must have changed nothing (P1).
 func TestP1P2Walks(t *testing.T) {
 	var seen [callKinds][11]int
-	shown := map[string]int{}
+	shown, tried := map[string]int{}, map[string]int{}
 	for seed := int64(0); seed < 100; seed++ {
 		r := rand.New(rand.NewSource(seed))
 		m := newModel(7)
@@ -186,8 +212,11 @@ func TestP1P2Walks(t *testing.T) {
 				t.Fatalf("seed %d, step %d: %+v = %v has changed the depot", seed, step, c, got)
 			}
 			seen[c.kind][got.e]++
-			if got.text != "" {
+			switch {
+			case c.kind == callShow && got.text != "":
 				shown[sightOf(c, got.text)]++
+			case c.kind == callResolve:
+				tried[fitOf(got)]++
 			}
 		}
 	}
@@ -197,6 +226,31 @@ func TestP1P2Walks(t *testing.T) {
 			t.Errorf("nobody was shown what is %s", sight)
 		}
 	}
+	for _, fit := range []string{"one", "several", "one after a failed try", "several after a failed try", "none at once", "none after steps"} {
+		if tried[fit] == 0 {
+			t.Errorf("nobody was told %s to go together", fit)
+		}
+	}
+}
+
+// fitOf tells what a Resolve came to.
+func fitOf(got answer) string {
+	picks := strings.Count(got.text, ";")
+	fit := "nothing"
+	switch {
+	case got.e == api.ErrNone && got.n == 0:
+		return "none at once"
+	case got.e == api.ErrNone:
+		return "none after steps"
+	case picks == 1:
+		fit = "one"
+	case picks > 1:
+		fit = "several"
+	}
+	if got.n > picks {
+		fit += " after a failed try"
+	}
+	return fit
 }
 
 // sightOf tells why something was shown.
@@ -232,6 +286,7 @@ func checkSeen(t *testing.T, seen [callKinds][11]int) {
 		callYank:    {api.OK, api.ErrToken, api.ErrRole, api.ErrName, api.ErrMissing},
 		callGrant:   {api.OK, api.ErrToken, api.ErrRole, api.ErrName, api.ErrMissing, api.ErrTaken, api.ErrRoom},
 		callShow:    {api.OK, api.ErrToken, api.ErrName, api.ErrMissing},
+		callResolve: {api.OK, api.ErrToken, api.ErrDeps, api.ErrArg, api.ErrNone, api.ErrBudget},
 	}
 	for kind, errnos := range answers {
 		for _, e := range errnos {
@@ -252,9 +307,11 @@ func TestP2DepotsApart(t *testing.T) {
 	feed(t, one, "y", 1, "", api.OK)
 	publish(t, one, "acme", 2, "x", 1, "", api.OK)
 	grant(t, one, "acme", 3, "x", "beta", api.OK)
+	fits(t, one, "acme", 2, "acme/x 1-1,y 1-1", "acme/x@1#acme;y@1#public;", 2)
 	clock(t, other, 0)
 	show(t, other, "acme", 2, "y", "")
 	show(t, other, "acme", 2, "acme/x", "")
+	noFit(t, other, "acme", 2, "acme/x 1-1,y 1-1", 0)
 	publish(t, other, "acme", 2, "x", 1, "", api.OK)
 	show(t, other, "beta", 2, "acme/x", "")
 	may(t, other, "acme", 1, api.Reader)
@@ -275,6 +332,7 @@ func TestP2AskedAgain(t *testing.T) {
 		may(t, d, "acme", 9, 0)
 		show(t, d, "acme", 1, "acme/x", "")
 		show(t, d, "acme", 1, "y", "")
+		noFit(t, d, "acme", 1, "acme/x 1-9", 0)
 	}
 	if !reflect.DeepEqual(d, furnished(t)) {
 		t.Error("asking has changed the depot")

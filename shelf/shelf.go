@@ -64,6 +64,16 @@ func (s *Shelf) Has(label string) bool {
 	return false
 }
 
+// Look tells what a version wants, whether it is yanked, and whether it is
+// there. The list is the shelf's own: it is not to be changed.
+func (s *Shelf) Look(label string, version int) ([]wants.Want, bool, bool) {
+	i := s.find(label, version)
+	if i < 0 {
+		return nil, false, false
+	}
+	return s.list[i].wants, s.list[i].yanked, true
+}
+
 // Tell writes the versions under a label, the least first, with `,` between
 // each two and `*` behind each that is yanked.
 func (s *Shelf) Tell(label string) string {

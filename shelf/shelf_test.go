@@ -125,12 +125,38 @@ func TestFirstErrorFirst(t *testing.T) {
 	}
 }
 
-func TestWantsAreKept(t *testing.T) {
+func look(t *testing.T, s *Shelf, label string, version int, list []wants.Want, yanked bool) {
+	t.Helper()
+	l, y, there := s.Look(label, version)
+	if !reflect.DeepEqual(l, list) || y != yanked || !there {
+		t.Errorf("Look(%q, %d) = %v, %v, %v, want %v, %v, true", label, version, l, y, there, list, yanked)
+	}
+}
+
+func noLook(t *testing.T, s *Shelf, label string, version int) {
+	t.Helper()
+	l, yanked, there := s.Look(label, version)
+	if l != nil || yanked || there {
+		t.Errorf("Look(%q, %d) = %v, %v, %v, want nothing", label, version, l, yanked, there)
+	}
+}
+
+func TestLook(t *testing.T) {
 	s := &Shelf{}
+	noLook(t, s, "x", 1)
 	lay(t, s, "x", 1, "acme/y 2-3,z 1-1", api.OK)
 	lay(t, s, "x", 2, "", api.OK)
-	want := []wants.Want{{Name: "acme/y", From: 2, To: 3}, {Name: "z", From: 1, To: 1}}
-	if !reflect.DeepEqual(s.list[0].wants, want) || len(s.list[1].wants) != 0 {
-		t.Errorf("kept wants are %v and %v, want %v and none", s.list[0].wants, s.list[1].wants, want)
+	lay(t, s, "y", 2, "x 1-1", api.OK)
+	yank(t, s, "x", 2, true, api.OK)
+	look(t, s, "x", 1, []wants.Want{{Name: "acme/y", From: 2, To: 3}, {Name: "z", From: 1, To: 1}}, false)
+	look(t, s, "x", 2, nil, true)
+	look(t, s, "y", 2, []wants.Want{{Name: "x", From: 1, To: 1}}, false)
+	yank(t, s, "x", 2, false, api.OK)
+	look(t, s, "x", 2, nil, false)
+	noLook(t, s, "y", 1)
+	noLook(t, s, "z", 1)
+	noLook(t, s, "", 0)
+	for _, version := range []int{least, -1, 0, 3, 10, most} {
+		noLook(t, s, "x", version)
 	}
 }
