@@ -33,6 +33,9 @@ func furnished(t *testing.T) *depot.Depot {
 	return d
 }
 
+// furnishing is the log of each house of furnished.
+const furnishing = "7:mint 1 1 100;7:mint 2 2 100;7:mint 3 3 100;"
+
 func tick(t *testing.T, d *depot.Depot, n int, want api.Errno) {
 	t.Helper()
 	if e := d.Tick(n); e != want {
@@ -165,4 +168,26 @@ func fits(t *testing.T, d *depot.Depot, house string, id int, wants string, want
 func noFit(t *testing.T, d *depot.Depot, house string, id int, wants string, steps int) {
 	t.Helper()
 	resolveOf(t, d, house, id, wants, "", steps, api.ErrNone)
+}
+
+// logged asks for a log, and for its sum.
+func logged(t *testing.T, d *depot.Depot, house string, id int, want string) {
+	t.Helper()
+	if text, e := d.Log(house, id); text != want || e != api.OK {
+		t.Errorf("Log(%q, %d) = %q, %d, want %q", house, id, text, e, want)
+	}
+	if sum, e := d.Head(house, id); sum != sumOf(want) || e != api.OK {
+		t.Errorf("Head(%q, %d) = %d, %d, want %d", house, id, sum, e, sumOf(want))
+	}
+}
+
+// notLogged asks for a log and for its sum, and is refused.
+func notLogged(t *testing.T, d *depot.Depot, house string, id int, want api.Errno) {
+	t.Helper()
+	if text, e := d.Log(house, id); text != "" || e != want {
+		t.Errorf("Log(%q, %d) = %q, %d, want nothing, %d", house, id, text, e, want)
+	}
+	if sum, e := d.Head(house, id); sum != 0 || e != want {
+		t.Errorf("Head(%q, %d) = %d, %d, want 0, %d", house, id, sum, e, want)
+	}
 }

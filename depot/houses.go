@@ -3,6 +3,7 @@ package depot
 import (
 	"depot/api"
 	"depot/grants"
+	"depot/journal"
 	"depot/shelf"
 	"depot/tokens"
 	"depot/words"
@@ -13,6 +14,7 @@ type houseRecord struct {
 	ring  tokens.Ring
 	stock shelf.Shelf
 	book  grants.Book
+	log   journal.Journal
 }
 
 // May tells the role of a token (P5).
@@ -58,7 +60,12 @@ func (d *Depot) Mint(house string, id int, of string, role int, fresh int, until
 	if h == nil {
 		return api.ErrMissing
 	}
-	return h.ring.Mint(role, fresh, until)
+	e = h.ring.Mint(role, fresh, until)
+	if e != api.OK {
+		return e
+	}
+	h.log.Mint(id, fresh, role, until)
+	return api.OK
 }
 
 // Revoke lets a token count no more (P8).
@@ -71,7 +78,12 @@ func (d *Depot) Revoke(house string, id int, of string, old int) api.Errno {
 	if h == nil {
 		return api.ErrMissing
 	}
-	return h.ring.Revoke(old)
+	e = h.ring.Revoke(old)
+	if e != api.OK {
+		return e
+	}
+	h.log.Revoke(id, old)
+	return api.OK
 }
 
 // held tells the role that is held by what the caller shows, or NoRole.

@@ -11,7 +11,7 @@ import (
 	"depot/api"
 )
 
-// model is a second telling of P3 to P14, straight from the document and with
+// model is a second telling of P3 to P15, straight from the document and with
 // other means than the program's, for the walks of walk_test.go.
 type model struct {
 	root   int
@@ -24,6 +24,7 @@ type modelHouse struct {
 	tokens  map[int]modelToken
 	shelf   modelShelf
 	granted map[string]bool // a package, a blank and a house
+	log     string
 }
 
 type modelToken struct {
@@ -82,7 +83,35 @@ func (m *model) role(house string, id int) int {
 	return token.role
 }
 
+// answer answers a call and, if that was done, lays its line behind a log.
 func (m *model) answer(c call) answer {
+	got := m.answered(c)
+	if got.e == api.OK {
+		m.logged(c)
+	}
+	return got
+}
+
+func (m *model) logged(c call) {
+	where, line := c.house, ""
+	switch c.kind {
+	case callMint:
+		where, line = c.text, fmt.Sprintf("mint %d %d %d", c.b, c.a, c.c)
+	case callRevoke:
+		where, line = c.text, fmt.Sprintf("revoke %d", c.a)
+	case callPublish:
+		line = fmt.Sprintf("publish %s %d", c.text, c.a)
+	case callYank:
+		line = fmt.Sprintf("%s %s %d", map[bool]string{false: "yank", true: "back"}[c.back], c.text, c.a)
+	case callGrant:
+		line = fmt.Sprintf("grant %s %s", c.text, c.more)
+	default:
+		return
+	}
+	m.houses[where].log += fmt.Sprintf("%d:%s;", c.id, line)
+}
+
+func (m *model) answered(c call) answer {
 	role := m.role(c.house, c.id)
 	switch c.kind {
 	case callTick:
@@ -107,6 +136,8 @@ func (m *model) answer(c call) answer {
 		return answer{e: m.grant(role, c)}
 	case callResolve:
 		return m.resolve(role, c)
+	case callLog, callHead:
+		return m.read(role, c)
 	}
 	return m.show(role, c)
 }
@@ -251,6 +282,27 @@ func (m *model) show(role int, c call) answer {
 		return answer{text: whose + ":" + versions}
 	}
 	return answer{e: api.ErrMissing}
+}
+
+func (m *model) read(role int, c call) answer {
+	e := first(check{role == 0, api.ErrToken}, check{role != api.Admin, api.ErrRole})
+	if e != api.OK {
+		return answer{e: e}
+	}
+	log := m.houses[c.house].log
+	if c.kind == callLog {
+		return answer{text: log}
+	}
+	return answer{n: sumOf(log)}
+}
+
+// sumOf counts a text's sum, byte by byte; a uint32 is modulo 2^32 by itself.
+func sumOf(text string) int {
+	sum := uint32(2166136261)
+	for _, b := range []byte(text) {
+		sum = (sum ^ uint32(b)) * 16777619
+	}
+	return int(sum)
 }
 
 // sight gives the shelf and the label where holders of the house see the

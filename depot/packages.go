@@ -23,7 +23,12 @@ func (d *Depot) Publish(house string, id int, pack string, version int, wants st
 	if !words.IsWord(pack) {
 		return api.ErrName
 	}
-	return h.stock.Lay(pack, version, wants, api.MaxOwn)
+	e = h.stock.Lay(pack, version, wants, api.MaxOwn)
+	if e != api.OK {
+		return e
+	}
+	h.log.Publish(id, pack, version)
+	return api.OK
 }
 
 // Yank takes a version back, or lets it count again (P11).
@@ -35,7 +40,12 @@ func (d *Depot) Yank(house string, id int, pack string, version int, back bool) 
 	if !words.IsWord(pack) {
 		return api.ErrName
 	}
-	return h.stock.Yank(pack, version, !back)
+	e = h.stock.Yank(pack, version, !back)
+	if e != api.OK {
+		return e
+	}
+	h.log.Yank(id, pack, version, back)
+	return api.OK
 }
 
 // Grant lets another house see a package (P12).
@@ -50,7 +60,12 @@ func (d *Depot) Grant(house string, id int, pack string, to string) api.Errno {
 	if !h.stock.Has(pack) {
 		return api.ErrMissing
 	}
-	return h.book.Add(pack, to)
+	e = h.book.Add(pack, to)
+	if e != api.OK {
+		return e
+	}
+	h.log.Grant(id, pack, to)
+	return api.OK
 }
 
 // Show tells the versions of a name (P13).
@@ -69,9 +84,3 @@ func (d *Depot) Show(house string, id int, name string) (string, api.Errno) {
 	versions := at.stock.Tell(at.label)
 	return at.whose() + ":" + versions, api.OK
 }
-
-// Log tells what was done in a house (P15).
-func (d *Depot) Log(house string, id int) (string, api.Errno) { return "", api.OK }
-
-// Head tells the log's sum (P15).
-func (d *Depot) Head(house string, id int) (int, api.Errno) { return 0, api.OK }

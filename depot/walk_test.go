@@ -24,6 +24,8 @@ const (
 	callGrant
 	callShow
 	callResolve
+	callLog
+	callHead
 	callKinds
 )
 
@@ -70,6 +72,12 @@ func do(d *depot.Depot, c call) answer {
 	case callResolve:
 		text, n, e := d.Resolve(c.house, c.id, c.more, c.a)
 		return answer{text: text, n: n, e: e}
+	case callLog:
+		text, e := d.Log(c.house, c.id)
+		return answer{text: text, e: e}
+	case callHead:
+		n, e := d.Head(c.house, c.id)
+		return answer{n: n, e: e}
 	}
 	text, e := d.Show(c.house, c.id, c.text)
 	return answer{text: text, e: e}
@@ -183,14 +191,17 @@ func pickCall(r *rand.Rand, m *model) call {
 }
 
 // asks are the calls that change nothing, whatever they answer.
-var asks = [callKinds]bool{callClock: true, callMay: true, callShow: true, callResolve: true}
+var asks = [callKinds]bool{callClock: true, callMay: true, callShow: true, callResolve: true, callLog: true, callHead: true}
+
+// loggedKinds are the calls that lay a line behind a log, if they are answered OK.
+var loggedKinds = []int{callMint, callRevoke, callPublish, callYank, callGrant}
 
 // Long walks of calls, right and wrong ones. Of two more depots, one gets all
 // the calls, for it must answer alike (P2), and one only those that were
 // answered OK and do not but ask, for the others must have changed nothing (P1).
 func TestP1P2Walks(t *testing.T) {
 	var seen [callKinds][11]int
-	shown, tried := map[string]int{}, map[string]int{}
+	shown, tried, told := map[string]int{}, map[string]int{}, map[string]int{}
 	for seed := int64(0); seed < 100; seed++ {
 		r := rand.New(rand.NewSource(seed))
 		m := newModel(7)
@@ -217,6 +228,10 @@ func TestP1P2Walks(t *testing.T) {
 				shown[sightOf(c, got.text)]++
 			case c.kind == callResolve:
 				tried[fitOf(got)]++
+			case c.kind == callLog:
+				for _, deed := range deeds {
+					told[deed] += strings.Count(got.text, ":"+deed+" ")
+				}
 			}
 		}
 	}
@@ -231,7 +246,15 @@ func TestP1P2Walks(t *testing.T) {
 			t.Errorf("nobody was told %s to go together", fit)
 		}
 	}
+	for _, deed := range deeds {
+		if told[deed] == 0 {
+			t.Errorf("no log told of a %s", deed)
+		}
+	}
 }
+
+// deeds are what lines of logs tell of.
+var deeds = []string{"mint", "revoke", "publish", "yank", "back", "grant"}
 
 // fitOf tells what a Resolve came to.
 func fitOf(got answer) string {
@@ -287,6 +310,8 @@ func checkSeen(t *testing.T, seen [callKinds][11]int) {
 		callGrant:   {api.OK, api.ErrToken, api.ErrRole, api.ErrName, api.ErrMissing, api.ErrTaken, api.ErrRoom},
 		callShow:    {api.OK, api.ErrToken, api.ErrName, api.ErrMissing},
 		callResolve: {api.OK, api.ErrToken, api.ErrDeps, api.ErrArg, api.ErrNone, api.ErrBudget},
+		callLog:     {api.OK, api.ErrToken, api.ErrRole},
+		callHead:    {api.OK, api.ErrToken, api.ErrRole},
 	}
 	for kind, errnos := range answers {
 		for _, e := range errnos {
@@ -308,6 +333,8 @@ func TestP2DepotsApart(t *testing.T) {
 	publish(t, one, "acme", 2, "x", 1, "", api.OK)
 	grant(t, one, "acme", 3, "x", "beta", api.OK)
 	fits(t, one, "acme", 2, "acme/x 1-1,y 1-1", "acme/x@1#acme;y@1#public;", 2)
+	logged(t, one, "acme", 3, furnishing+"3:revoke 1;3:mint 9 2 100;2:publish x 1;3:grant x beta;")
+	logged(t, other, "acme", 3, furnishing)
 	clock(t, other, 0)
 	show(t, other, "acme", 2, "y", "")
 	show(t, other, "acme", 2, "acme/x", "")
@@ -333,6 +360,8 @@ func TestP2AskedAgain(t *testing.T) {
 		show(t, d, "acme", 1, "acme/x", "")
 		show(t, d, "acme", 1, "y", "")
 		noFit(t, d, "acme", 1, "acme/x 1-9", 0)
+		logged(t, d, "acme", 3, furnishing)
+		notLogged(t, d, "acme", 1, api.ErrRole)
 	}
 	if !reflect.DeepEqual(d, furnished(t)) {
 		t.Error("asking has changed the depot")
